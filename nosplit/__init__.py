@@ -1,0 +1,1 @@
+"""Nosplit: a database of many versions, and which levels are enough."""

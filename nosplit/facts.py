@@ -1,0 +1,63 @@
+"""What single STEPS and JOBS do, for tuples that are known to be such."""
+
+LEVELS = ("plain", "shot", "watched")
+KINDS = ("read", "write")
+LETTERS = "abcdefghijklmnopqrstuvwxyz"
+
+
+def is_row(thing):
+    if not isinstance(thing, str) or not 1 <= len(thing) <= 8:
+        return False
+    return all([sign in LETTERS for sign in thing])
+
+
+def is_level(thing):
+    return isinstance(thing, str) and thing in LEVELS
+
+
+def rows_of_kind(steps, kind):
+    """The ROWS that these STEPS read, or write, as they stand."""
+    return [row for does, row in steps if does == kind]
+
+
+def reads_row(job, row):
+    return ("read", row) in job[1]
+
+
+def writes_row(job, row):
+    return ("write", row) in job[1]
+
+
+def reads_from(one, other):
+    """Whether the first JOB reads a ROW that the other one writes."""
+    return any([writes_row(other, row) for row in rows_of_kind(one[1], "read")])
+
+
+def steps_clash(one, other):
+    """Whether two STEPS of two JOBS clash."""
+    return one[1] == other[1] and "write" in (one[0], other[0])
+
+
+def any_clash(some, others):
+    """Whether some STEP of the first ones clashes with some of the others."""
+    return any([steps_clash(one, other) for one in some for other in others])
+
+
+def jobs_clash(jobs, one, other):
+    """Whether the JOBS at these places clash; a JOB does not clash with itself."""
+    return one != other and any_clash(jobs[one][1], jobs[other][1])
+
+
+def clash_links(jobs):
+    """For each place the ascending list of those whose JOBS clash with this one's."""
+    places = range(len(jobs))
+    return {one: [other for other in places if jobs_clash(jobs, one, other)] for one in places}
+
+
+def row_name(number):
+    """a, b, c .. for 0, 1, 2 ..; two letters and more behind z."""
+    name = LETTERS[number % 26]
+    while number >= 26:
+        number = number // 26 - 1
+        name = LETTERS[number % 26] + name
+    return name

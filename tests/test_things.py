@@ -1,0 +1,87 @@
+"""[2]: each function with a parameter thing tells True of what is stated, False of all else, and never fails."""
+
+import unittest
+
+import interface
+import samples
+
+NEST = "deep"
+for _ in range(11):
+    NEST = (NEST,)
+
+ZOO = [None, True, False, 0, 1, -1, 2, 10 ** 40, "", "x", "read", "plain", "X", "a" * 500, "-", (), [], ((),), [[]],
+       (None,), (True,), (False,), (0,), (1,), (-1,), ("x",), ((), ()), ([], []), (0, 1), (1, 0), [0, 1], (0, True),
+       ("read", "x"), ["read", "x"], ("read", "X"), ("read", ""), ("read", "abcdefghi"), ("read", "x1"),
+       ("read", "x", "y"), ("read",), ("write", None), ("read", True), (None, "x"), (("read",), "x"), ("see", "x"),
+       (["read"], "x"), ("plain", ()), ("plain", []), ["plain", ()], ("high", ()), (True, ()), ("plain", None),
+       ("plain", ((),)), ("plain", ("read", "x")), ("plain", (("read", "x"), None)), ("plain", (), ()),
+       ("plain", (("read", "x"), ("read", "x"))), ("plain", (("write", "x"), ("write", "x"))),
+       ("plain", (("write", "x"), ("read", "x"))), (("plain", ()),), (("plain", ()), None), (("plain", ()), ()),
+       (0, 0, (1,)), (0, 0, ()), (0, 0, (0,)), (0, 0, (1, 1)), (0, 0, [1]), (0, 0, 1), (0, 0, None), (0, 0, (None,)),
+       (0, 0, (1,), 0), ("0", 0, (1,)), (None, 0, (1,)), (0, None, (1,)), (99, 0, (1,)), (0, 99, (1,)), (0, 0, (99,)),
+       (0, -1, (1,)), (-1, 0, (1,)), (0, 0, (-1,)), ((0, 0),), ((0, 0), (0, 0)), ((1, 0), (0, 0)), ((0, 2),), ((0,),),
+       ((0, 0, 0),), ((0, None),), (None, (0, 0)), ((0, True),), [(0, 0)], ("shot",), ("shot", None), (True, "shot"),
+       NEST, (NEST, NEST), ("read", NEST), ("plain", NEST), (0, 0, NEST), (0, 1, 0, NEST), tuple(range(3000)),
+       (0,) * 3000, ("shot",) * 3000, "plain shot", (10 ** 30, 0), "01", ((0, 1), 0)]
+
+
+def spoilt(value):
+    """Values that differ from this one in one place: another kind, one more, one less."""
+    if isinstance(value, tuple):
+        yield list(value)
+        yield value + (None,)
+        yield (None,) + value
+        yield None
+        for at, part in enumerate(value):
+            for other in spoilt(part):
+                yield value[:at] + (other,) + value[at + 1:]
+    elif isinstance(value, int):
+        yield from (bool(value), str(value), None, (value,), -1, 10 ** 12)
+    else:
+        yield from (value + "A", "", None, True, 0, (value,), [value])
+
+
+class Things(unittest.TestCase):
+    def each(self):
+        names = interface.all_names()
+        for _, name, arguments in samples.calls():
+            if "thing" in arguments:
+                yield name, names[name], arguments
+
+    def test_the_right_ones(self):
+        for name, function, arguments in self.each():
+            with self.subTest(name=name):
+                self.assertIs(function(**arguments), True)
+
+    def test_nearly_right_ones(self):
+        for name, function, arguments in self.each():
+            for thing in spoilt(arguments["thing"]):
+                with self.subTest(name=name, thing=thing):
+                    self.assertIs(function(**{**arguments, "thing": thing}), False)
+
+    def test_values_of_every_kind(self):
+        for name, function, arguments in self.each():
+            for thing in ZOO:
+                with self.subTest(name=name, thing=thing):
+                    told = function(**{**arguments, "thing": thing})
+                    self.assertIn(told, (True, False))
+                    self.assertIs(type(told), bool)
+                    if isinstance(thing, list) or not isinstance(thing, tuple):
+                        self.assertIs(told, False)
+
+    def test_whatever_the_bounds(self):
+        names = interface.all_names()
+        steps = tuple((kind, "r" + letter + other) for letter in "abcdefgh" for other in "abcdefgh"
+                      for kind in ("read", "write"))
+        self.assertIs(names["is_job"](("shot", steps)), True)
+        self.assertIs(names["is_jobs"]((("shot", steps),) * 300), True)
+        self.assertIs(names["is_jobs"]((("shot", steps),) * 300 + (("shot", steps + steps[:1]),)), False)
+        self.assertIs(names["is_jobs"](()), True)
+        ring = tuple(range(500))
+        edges = [(one, (one + 1) % 500, "x", "over") for one in ring]
+        self.assertIs(names["is_ring"](edges, ring), True)
+        self.assertIs(names["is_ring"](edges, ring[1:] + ring[:1]), False)
+
+
+if __name__ == "__main__":
+    unittest.main()
