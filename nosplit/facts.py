@@ -12,7 +12,7 @@ def is_row(thing):
 
 
 def is_level(thing):
-    return isinstance(thing, str) and thing in LEVELS
+    return thing in LEVELS
 
 
 def rows_of_kind(steps, kind):

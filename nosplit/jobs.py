@@ -11,7 +11,7 @@ from nosplit.values import ascending, tupled
 def is_step(thing):
     if not isinstance(thing, tuple) or len(thing) != 2:
         return False
-    return isinstance(thing[0], str) and thing[0] in KINDS and is_row(thing[1])
+    return thing[0] in KINDS and is_row(thing[1])
 
 
 def _fit_together(steps):
@@ -103,7 +103,7 @@ def do_clash(jobs, one, other):
 
 def clashes(jobs):
     links = clash_links(tupled(jobs))
-    return tuple([(one, other) for one in sorted(links) for other in links[one] if one < other])
+    return tuple([(one, other) for one in links for other in links[one] if one < other])
 
 
 def clashing_steps(jobs, one, other):

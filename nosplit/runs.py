@@ -106,8 +106,8 @@ def pinches_of(run):
 
 
 def _bar_commit(run, place):
-    # What is not watched is in no pinch, and a JOB without STEPS, which has not begun yet, neither.
-    if run.jobs[place][0] != "watched" or not run.jobs[place][1]:
+    # What is not watched is in no pinch: nobody need be asked.
+    if run.jobs[place][0] != "watched":
         return ()
     after = run_of(run.jobs, [mover for mover, step in run.moves] + [place])
     triples = [triple for triple in pinches_of(after) if place in triple]

@@ -5,7 +5,7 @@ from nosplit.errors import Unfit
 from nosplit.facts import any_clash, clash_links, jobs_clash, reads_from, rows_of_kind, writes_row
 from nosplit.graphs import least_way, reached_from
 from nosplit.jobs import part_of, without_job
-from nosplit.values import are_numbers_below, ascending, is_number_below, numbers_in, tupled
+from nosplit.values import are_numbers_below, ascending, is_number, is_number_below, numbers_in, tupled
 
 
 def _is_read(jobs, head, place):
@@ -201,21 +201,22 @@ def reached(jobs, head, place):
     return tuple(reached_from(links, starts))
 
 
-def _is_pair_set(thing, jobs):
-    """Whether thing is an ascending tuple of pairs of one of these JOBS and a mark."""
+def _is_set_of(thing, links):
+    """Whether thing is a set of pairs (job, mark) among those that links tell of."""
     if not isinstance(thing, tuple):
         return False
     for pair in thing:
-        if not are_numbers_below(pair, max(len(jobs), 2)) or len(pair) != 2:
+        # Kinds are looked at first: True is no mark, and a list in it could not be looked up.
+        if not isinstance(pair, tuple) or not all([is_number(part) for part in pair]) or pair not in links:
             return False
-    return ascending(thing) == thing and all([mark < 2 for job, mark in thing])
+    return ascending(thing) == thing
 
 
 def is_why(jobs, head, place, thing):
     jobs = tupled(jobs)
     _need_read(jobs, head, place)
     starts, links, goals = _ways(jobs, clash_links(jobs), head, place)
-    if not _is_pair_set(thing, jobs) or not all([pair in links for pair in thing]):
+    if not _is_set_of(thing, links):
         return False
     pairs = {pair: True for pair in thing}
     if any([goal in pairs for goal in goals]) or not all([pair in pairs for pair in starts]):

@@ -92,7 +92,7 @@ class Rings(Case):
     def test_is_ring(self):
         for edges in [EDGES] + list(edge_sets())[::11]:
             rings, nodes = rings_of(edges), sorted({node for edge in edges for node in edge[:2]})[:4] + [5]
-            for many in range(4):
+            for many in range(5):
                 for thing in product(nodes, repeat=many):
                     self.assertIs(no.is_ring(edges, thing), thing in rings)
 

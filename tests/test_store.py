@@ -136,6 +136,11 @@ class Bars(Case):
         for levels in oracle.all_levels(3):
             jobs = with_levels(LATE, levels)
             self.assertIs(store.is_let(jobs, LATE_MIX), levels != ("watched",) * 3)
+        # A commit behind a pinch of others is not barred by it.
+        third = SKEW + (("watched", (("read", "x"),)),)
+        self.assertEqual(store.barred_moves(third, TURN + (2, 2)), [(7, "p")])
+        self.assertEqual(store.barred_moves(third, (2,) + TURN + (2,)), [(8, "p")])
+        self.assertEqual(store.barred_by(third, (2,) + TURN + (2,), 9), ())
         # y commits ahead of x, else there is no pinch.
         ahead = (1, 0, 2, 0, 0, 2, 1, 1)
         self.assertEqual(store.pinches(LATE, ahead), [])
