@@ -1,6 +1,5 @@
 """MIXES: in which order the moves of JOBS are done."""
 
-from itertools import permutations
 from math import comb
 
 from nosplit.checks import need_move, need_number, need_order, need_place, need_places
@@ -147,7 +146,10 @@ def is_whole(jobs, mix):
 
 def whole_mixes(jobs):
     jobs = tupled(jobs)
-    return sorted([_whole(jobs, order) for order in permutations(range(len(jobs)))])
+    orders = [()]
+    for _ in range(len(jobs)):
+        orders = [order + (place,) for order in orders for place in range(len(jobs)) if place not in order]
+    return sorted([_whole(jobs, order) for order in orders])
 
 
 def how_many_by(jobs, order):

@@ -204,7 +204,7 @@ class Language(unittest.TestCase):
                 parent = above[node]
                 at_once = isinstance(parent, (ast.For, ast.comprehension)) and parent.iter is node
                 eaten = called(parent) in EATERS and node in parent.args
-                turned = called(node) == "range" and called(parent) in ("reversed", "permutations")
+                turned = called(node) == "range" and called(parent) == "reversed"
                 kept = called(node) == "range" and isinstance(parent, ast.Assign)
                 with self.subTest(file=name, line=node.lineno):
                     self.assertTrue(at_once or eaten or turned or kept)
