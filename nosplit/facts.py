@@ -15,6 +15,36 @@ def is_level(thing):
     return thing in LEVELS
 
 
+def rank_of(level):
+    return LEVELS.index(level)
+
+
+def is_lesser(level, other):
+    return rank_of(level) < rank_of(other)
+
+
+def all_givings(many):
+    """The ascending list of the GIVINGS of so many JOBS."""
+    found = [()]
+    for _ in range(many):
+        found = [levels + (level,) for levels in found for level in LEVELS]
+    return found
+
+
+def least_level_at(many, place, fits):
+    """The level at place of the least GIVING of so many that fits; fits tells of a GIVING whether it does."""
+    # Just those fit that are at least the least one: with all others at the top, this level alone decides.
+    top = ("watched",) * many
+    for level in ("plain", "shot"):
+        if fits(top[:place] + (level,) + top[place + 1:]):
+            return level
+    return "watched"
+
+
+def least_giving(many, fits):
+    return tuple([least_level_at(many, place, fits) for place in range(many)])
+
+
 def rows_of_kind(steps, kind):
     """The ROWS that these STEPS read, or write, as they stand."""
     return [row for does, row in steps if does == kind]

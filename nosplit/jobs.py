@@ -4,7 +4,7 @@ from nosplit.checks import need_number, need_order, need_place, need_places, nee
 from nosplit.errors import Twice, Unfit
 from nosplit.facts import KINDS, clash_links, is_level, is_row, jobs_clash, reads_row, row_name
 from nosplit.facts import rows_of_kind, steps_clash, writes_row
-from nosplit.graphs import least_way, reached_from
+from nosplit.graphs import least_way, lots_in
 from nosplit.values import ascending, tupled
 
 
@@ -117,8 +117,7 @@ def clashing_steps(jobs, one, other):
 
 
 def lots(jobs):
-    links = clash_links(tupled(jobs))
-    return ascending([tuple(reached_from(links, [place])) for place in links])
+    return lots_in(clash_links(tupled(jobs)))
 
 
 def way_between(jobs, one, other):

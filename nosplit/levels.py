@@ -1,7 +1,7 @@
 """GIVINGS of levels, and which of them are enough; the levels that JOBS have themselves play no part."""
 
 from nosplit.checks import need_place, need_places
-from nosplit.facts import LEVELS, is_level
+from nosplit.facts import LEVELS, all_givings, is_lesser, is_level, least_level_at, rank_of
 from nosplit.jobs import with_job, with_level, with_levels, without_job, without_step
 from nosplit.splits import is_split, safe, split_in
 from nosplit.values import tupled
@@ -15,19 +15,9 @@ def is_enough(jobs, levels):
     return safe(with_levels(jobs, levels))
 
 
-def _all_watched(jobs):
-    return with_levels(jobs, ["watched"] * len(jobs))
-
-
 def _least_at(jobs, place):
     """The level of this JOB in the least GIVING that is enough."""
-    # A GIVING is enough exactly if it is at least the least one: with all others at the top,
-    # this JOB's level alone decides.
-    top = _all_watched(jobs)
-    for level in ("plain", "shot"):
-        if safe(with_level(top, place, level)):
-            return level
-    return "watched"
+    return least_level_at(len(jobs), place, lambda levels: is_enough(jobs, levels))
 
 
 def least_levels(jobs):
@@ -41,30 +31,14 @@ def least_level(jobs, place):
     return _least_at(jobs, place)
 
 
-def _all_givings(many):
-    """The ascending list of the GIVINGS of so many JOBS."""
-    found = [()]
-    for _ in range(many):
-        found = [levels + (level,) for levels in found for level in LEVELS]
-    return found
-
-
 def all_enough(jobs):
     jobs = tupled(jobs)
-    return [levels for levels in _all_givings(len(jobs)) if is_enough(jobs, levels)]
-
-
-def _rank(level):
-    return LEVELS.index(level)
-
-
-def _is_lesser(level, other):
-    return _rank(level) < _rank(other)
+    return [levels for levels in all_givings(len(jobs)) if is_enough(jobs, levels)]
 
 
 def lesser_of(jobs, levels, other):
     levels, other = tupled(levels), tupled(other)
-    return tuple([LEVELS[min(_rank(levels[place]), _rank(other[place]))] for place in range(len(jobs))])
+    return tuple([LEVELS[min(rank_of(levels[place]), rank_of(other[place]))] for place in range(len(jobs))])
 
 
 def levels_with(jobs, job):
@@ -86,14 +60,14 @@ def lowered_without(jobs, place):
     need_place(jobs, place)
     levels, without = least_levels(jobs), _with_gap(least_levels(without_job(jobs, place)), place)
     others = [other for other in range(len(jobs)) if other != place]
-    return tuple([other for other in others if _is_lesser(without[other], levels[other])])
+    return tuple([other for other in others if is_lesser(without[other], levels[other])])
 
 
 def costly_steps(jobs, place):
     jobs = tupled(jobs)
     level = least_level(jobs, place)
     steps = range(len(jobs[place][1]))
-    return tuple([step for step in steps if _is_lesser(_least_at(without_step(jobs, place, step), place), level)])
+    return tuple([step for step in steps if is_lesser(_least_at(without_step(jobs, place, step), place), level)])
 
 
 def who_costs(jobs, place):
@@ -102,7 +76,7 @@ def who_costs(jobs, place):
     found = []
     for other in range(len(jobs)):
         at = place - 1 if other < place else place
-        if other != place and _is_lesser(_least_at(without_job(jobs, other), at), level):
+        if other != place and is_lesser(_least_at(without_job(jobs, other), at), level):
             found.append(other)
     return tuple(found)
 
@@ -112,14 +86,14 @@ def cheapest(jobs, prices):
     least = least_levels(jobs)
     for place in range(len(least)):
         # What is enough is told place by place, so each JOB can have the cheapest level it may have.
-        fit = LEVELS[_rank(least[place]):]
-        cost = min([prices[place][_rank(level)] for level in fit])
-        levels.append([level for level in fit if prices[place][_rank(level)] == cost][0])
+        fit = LEVELS[rank_of(least[place]):]
+        cost = min([prices[place][rank_of(level)] for level in fit])
+        levels.append([level for level in fit if prices[place][rank_of(level)] == cost][0])
     return price_of(jobs, prices, levels), tuple(levels)
 
 
 def price_of(jobs, prices, levels):
-    return sum([prices[place][_rank(levels[place])] for place in range(len(jobs))])
+    return sum([prices[place][rank_of(levels[place])] for place in range(len(jobs))])
 
 
 def _lowered(jobs, place):
@@ -127,7 +101,7 @@ def _lowered(jobs, place):
     least = least_levels(jobs)
     if least[place] == "plain":
         return None
-    return with_level(with_levels(jobs, least), place, LEVELS[_rank(least[place]) - 1])
+    return with_level(with_levels(jobs, least), place, LEVELS[rank_of(least[place]) - 1])
 
 
 def split_below(jobs, place):

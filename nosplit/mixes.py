@@ -4,8 +4,8 @@ from math import comb
 
 from nosplit.checks import need_move, need_number, need_order, need_place, need_places
 from nosplit.errors import Unfit
-from nosplit.runs import are_both_open, places_left, run_of
-from nosplit.values import are_numbers_below, is_number_below, tupled
+from nosplit.runs import are_both_open, places_left, run_of, whole_moves
+from nosplit.values import all_orders, are_numbers_below, count_turned, is_number_below, tupled
 
 
 def _move_counts(jobs):
@@ -128,14 +128,10 @@ def order_of(jobs, mix):
     return tuple([place for place, step in run.moves if step is None])
 
 
-def _whole(jobs, order):
-    return tuple([place for place in order for _ in range(len(jobs[place][1]) + 1)])
-
-
 def whole_mix(jobs, order):
     jobs, order = tupled(jobs), tupled(order)
     need_order(jobs, order)
-    return _whole(jobs, order)
+    return whole_moves(jobs, order)
 
 
 def is_whole(jobs, mix):
@@ -146,10 +142,7 @@ def is_whole(jobs, mix):
 
 def whole_mixes(jobs):
     jobs = tupled(jobs)
-    orders = [()]
-    for _ in range(len(jobs)):
-        orders = [order + (place,) for order in orders for place in range(len(jobs)) if place not in order]
-    return sorted([_whole(jobs, order) for order in orders])
+    return sorted([whole_moves(jobs, order) for order in all_orders(list(range(len(jobs))))])
 
 
 def how_many_by(jobs, order):
@@ -195,16 +188,8 @@ def _targets(jobs, one, other):
     return targets
 
 
-def _count_turned(numbers):
-    """How many pairs of these numbers stand with the greater one ahead."""
-    many = 0
-    for at in range(len(numbers)):
-        many += len([number for number in numbers[at + 1:] if number < numbers[at]])
-    return many
-
-
 def distance(jobs, one, other):
-    return _count_turned(_targets(tupled(jobs), tupled(one), tupled(other)))
+    return count_turned(_targets(tupled(jobs), tupled(one), tupled(other)))
 
 
 def swaps_between(jobs, one, other):

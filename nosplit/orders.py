@@ -4,6 +4,7 @@ from nosplit.checks import need_number
 from nosplit.errors import CanNot
 from nosplit.graphs import least_way, links_within, reached_from
 from nosplit.jobs import rows_of
+from nosplit.lines import all_lines, all_nodes, count_lines, least_line, needed_ahead, nth_line
 from nosplit.runs import read_moves, run_of, version_seen, writers_ahead
 from nosplit.values import ascending, is_number, is_turn, tupled, without
 
@@ -95,42 +96,13 @@ def knots(edges):
     return ascending([together for together in sets if len(together) > 1])
 
 
-def _needed_ahead(places, quadruples):
+def _needed_by(places, quadruples):
     """For each of these places those of them from which EDGES lead to it."""
-    needed = {place: [] for place in places}
-    for one, other, row, kind in quadruples:
-        if one in needed and other in needed and one not in needed[other]:
-            needed[other].append(one)
-    return needed
+    return needed_ahead(places, [(quadruple[0], quadruple[1]) for quadruple in quadruples])
 
 
 def _needed(jobs, mix):
-    return _needed_ahead(list(range(len(jobs))), edges(jobs, mix))
-
-
-def _free(needed, rest):
-    """Those of the rest that can stand ahead of all others of it."""
-    return [place for place in rest if not any([other in rest for other in needed[place]])]
-
-
-def _count_rows(needed, rest, known):
-    """In how many rows the rest can stand; known keeps the counts that are there already."""
-    if not rest:
-        return 1
-    if rest not in known:
-        known[rest] = sum([_count_rows(needed, without(rest, place), known) for place in _free(needed, rest)])
-    return known[rest]
-
-
-def _least_row(needed):
-    """The least row of them all; None if there is none."""
-    row, rest = (), tuple(sorted(needed))
-    while rest:
-        free = _free(needed, rest)
-        if not free:
-            return None
-        row, rest = row + (free[0],), without(rest, free[0])
-    return row
+    return _needed_by(list(range(len(jobs))), edges(jobs, mix))
 
 
 def is_straight(jobs, mix):
@@ -138,40 +110,21 @@ def is_straight(jobs, mix):
 
 
 def straight_orders(jobs, mix):
-    jobs = tupled(jobs)
-    needed, places = _needed(jobs, mix), tuple(range(len(jobs)))
-    found, ahead = [], [()]
-    while ahead:
-        row = ahead.pop()
-        rest = tuple([place for place in places if place not in row])
-        if not rest:
-            found.append(row)
-        for place in _free(needed, rest):
-            ahead.append(row + (place,))
-    return sorted(found)
+    return all_lines(_needed(tupled(jobs), mix))
 
 
 def how_many_orders(jobs, mix):
-    jobs = tupled(jobs)
-    return _count_rows(_needed(jobs, mix), tuple(range(len(jobs))), {})
+    needed = _needed(tupled(jobs), mix)
+    return count_lines(needed, all_nodes(needed), {})
 
 
 def nth_order(jobs, mix, number):
-    jobs = tupled(jobs)
-    needed, rest, known = _needed(jobs, mix), tuple(range(len(jobs))), {}
-    need_number(number, _count_rows(needed, rest, known))
-    row, left = (), number
-    while rest:
-        free, at = _free(needed, rest), 0
-        while left >= _count_rows(needed, without(rest, free[at]), known):
-            left -= _count_rows(needed, without(rest, free[at]), known)
-            at += 1
-        row, rest = row + (free[at],), without(rest, free[at])
-    return row
+    need_number(number, how_many_orders(jobs, mix))
+    return nth_line(_needed(tupled(jobs), mix), number)
 
 
 def least_order(jobs, mix):
-    return _least_row(_needed(tupled(jobs), mix))
+    return least_line(_needed(tupled(jobs), mix))
 
 
 def is_straight_order(jobs, mix, thing):
@@ -207,7 +160,7 @@ def spoilt_at(jobs, mix):
         place, step = run.moves[move]
         if step is None:
             committed.append(place)
-            if _least_row(_needed_ahead(committed, found)) is None:
+            if least_line(_needed_by(committed, found)) is None:
                 return move
     return None
 

@@ -34,6 +34,17 @@ def run_of(jobs, done):
     return run
 
 
+def whole_moves(jobs, order):
+    """The moves of these JOBS, each one whole, one behind another."""
+    return tuple([place for place in order for _ in range(len(jobs[place][1]) + 1)])
+
+
+def cut_moves(jobs, split):
+    """The moves of head up to and with the STEP at place, of the others, each one whole, and of the rest of head."""
+    head, place, others = split
+    return (head,) * (place + 1) + whole_moves(jobs, others) + (head,) * (len(jobs[head][1]) - place)
+
+
 def places_left(jobs, done):
     """The places of the JOBS that have a move left behind these ones."""
     return [place for place in range(len(jobs)) if done.count(place) <= len(jobs[place][1])]
@@ -114,13 +125,21 @@ def _bar_commit(run, place):
     return ascending([other for triple in triples for other in triple if other != place])
 
 
+def next_step(run, place):
+    """The next STEP of this JOB; None if its commit, or nothing, is left."""
+    steps, number = run.jobs[place][1], run.counts[place]
+    return steps[number] if number < len(steps) else None
+
+
+def barred_write(run, place):
+    """The set of those who bar the next move of this JOB by (w); () if nobody does."""
+    step = next_step(run, place)
+    return _bar_write(run, place, step[1]) if step is not None and step[0] == "write" else ()
+
+
 def barred_next(run, place):
     """The set of those who bar the next move of this JOB; () if it is not barred."""
-    steps, step = run.jobs[place][1], run.counts[place]
-    if step == len(steps):
-        return _bar_commit(run, place)
-    kind, row = steps[step]
-    return _bar_write(run, place, row) if kind == "write" else ()
+    return _bar_commit(run, place) if next_step(run, place) is None else barred_write(run, place)
 
 
 def bars_along(jobs, done):

@@ -45,6 +45,38 @@ SIGNATURES = {
         lowered_without(jobs,place) costly_steps(jobs,place) who_costs(jobs,place) cheapest(jobs,prices)
         price_of(jobs,prices,levels) split_below(jobs,place) is_split_below(jobs,place,thing)
         enough_within(jobs,some) fewest_watched(jobs)""",
+    "changes": """is_order(jobs,place,thing) with_order(jobs,place,order) fine_orders(jobs,place) best_order(jobs,place)
+        is_holding(jobs,thing) held(jobs,holding) saving_holdings(jobs) cheapest_holding(jobs,prices)
+        is_cuts(jobs,thing) pieces_of(jobs,cuts) keeps_cuts(jobs,cuts,mix) is_unbroken(jobs,cuts,mix)
+        lots_beside(jobs,place) are_clean(jobs,cuts) are_right(jobs,cuts) finest_cuts(jobs) joining(jobs,cuts)
+        is_joining(jobs,cuts,thing) breaking_mix(jobs,cuts) is_breaking_mix(jobs,cuts,thing)
+        fewest_away(jobs,place,number) roads_past(jobs,place,number) are_roads_past(jobs,place,number,thing)""",
+    "fillings": """is_program(thing) is_company(programs,lone,thing) filled(programs,company) as_programs(jobs)
+        are_safe(programs,lone) fewest_copies(programs,lone) safe_up_to(programs,lone,many)
+        bad_company(programs,lone) is_bad_company(programs,lone,thing) bad_heads(programs,lone)
+        greatest_safe(programs,lone) saving_tables(programs,lone) with_lone(programs,lone,table)
+        is_enough_for(programs,lone,levels) least_for(programs,lone) least_for_more(programs,lone,program)""",
+    "histories": """is_tale(jobs,thing) needs(jobs,tale) comes(jobs,tale) mix_of(jobs,tale) is_mix_of(jobs,tale,thing)
+        tale_by(jobs,mix) needs_ring(jobs,tale) is_needs_ring(jobs,tale,thing) how_many_of(jobs,tale)
+        nth_of(jobs,tale,number) surely_beside(jobs,tale) maybe_beside(jobs,tale) surely_first(jobs,tale)
+        same_tale(jobs,one,other) tale_swaps(jobs,one,other) is_tale_swaps(jobs,one,other,thing)
+        givings(jobs,tale) highest_givings(jobs,tale) rows_for(jobs,seen) tale_for(jobs,seen)""",
+    "sessions": """is_ahead(jobs,thing) ahead_of_sessions(jobs,sessions) ahead_of_rounds(jobs,rounds)
+        leads(jobs,ahead,one,other) is_short_mix(jobs,thing) who_come(jobs,mix) come_alone(jobs,mix)
+        keeps_ahead(jobs,ahead,mix) is_let_short(jobs,mix) rows_by(jobs,ahead,mix) is_straight_by(jobs,ahead,mix)
+        is_split_by(jobs,ahead,thing) split_by(jobs,ahead) is_safe_by(jobs,ahead) short_mix_of(jobs,ahead,split)
+        least_by(jobs,ahead) healing_pairs(jobs,ahead) spoiling_pairs(jobs,ahead) fewest_rounds(jobs)
+        rounds_for(jobs)""",
+    "gaps": """cell_of(keys,number) touched(keys,low,high) bars_all(keys,low,high,cells) barred_beside(keys,low,high)
+        phantoms(keys,jobs) barred_for_nothing(keys,jobs) fences(keys,jobs) fence_paper(keys,jobs)
+        is_fence_paper(keys,jobs,thing)""",
+    "ranges": """is_range_jobs(thing) written(jobs) as_jobs(jobs) is_range_mix(jobs,thing) is_let_by_ranges(jobs,mix)
+        is_straight_by_ranges(jobs,mix) range_outcome(jobs,mix) range_split(jobs) is_range_split(jobs,thing)
+        are_safe_ranges(jobs) split_numbers(jobs,split) bad_range_mix(jobs) is_bad_range_mix(jobs,thing)""",
+    "waits": """is_kept(jobs,thing) open_jobs(jobs,done) held_rows(jobs,done,place) waits_for(jobs,done,place)
+        may_move(jobs,done) ahead_pairs(jobs,done) late_pairs(jobs,done) ending(jobs,done)
+        is_ending(jobs,done,thing) how_many_endings(jobs,done) loss(jobs,done) is_loss(jobs,done,thing)
+        can_end(jobs,done) safe_moves(jobs,done)""",
 }
 
 

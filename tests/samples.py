@@ -22,6 +22,31 @@ CLOSED = (ASK, GIVE, ("shot", (("read", "d"), ("read", "a"))))
 EDGES = ((0, 1, "x", "over"), (1, 0, "y", "seen"), (1, 2, "x", "over"), (2, 0, "z", "missed"))
 PRICES = ((1, 5, 4), (0, 2, 0), (3, 3, 3))
 
+NEAR = (("read", "a"), ("write", "a"))
+BANK = (("shot", NEAR + (("read", "b"), ("write", "b"))), ("shot", NEAR), ("plain", (("write", "b"), ("write", "c"))),
+        ("shot", (("read", "a"), ("read", "b"))))
+CUTS = ((2,), (), (1,), ())
+BROKEN = (0, 0, 0, 5, 5, 5, 1, 1, 1, 2, 2, 2, 3, 3, 4, 4)
+WRITE_SKEW = (("shot", (("read", "x"), ("read", "y"), ("write", "x"))), ("shot", (("read", "x"), ("read", "y"), ("write", "y"))))
+
+HIT = ("shot", (("x", "acc"),), (("read", "x"), ("write", "x")))
+PEEK = ("plain", (("x", "acc"), ("y", "acc")), (("read", "x"), ("read", "y")))
+MARK = ("plain", (("a", "day"), ("x", "acc")), (("read", "a"), ("write", "x")))
+COMPANY = ((1, ("ann", "bob")), (0, ("ann",)), (0, ("bob",)), (1, ("ann", "bob")))
+
+CROSS = (("shot", (("read", "x"), ("write", "y"))), ("shot", (("read", "y"), ("write", "x"))),
+         ("plain", (("read", "x"), ("read", "y"))))
+TALE = (((None,), (None,), (1, 0)), (("x", (1,)), ("y", (0,))))
+LOST = (((None,), (None,)), (("x", (0, 1)),))
+
+HAND = (("shot", (("read", "a"), ("write", "b"))), ("shot", (("write", "a"),)), ("shot", (("read", "b"),)))
+
+TWICE = (("plain", (("range", 1, 1), ("range", 2, 4))), ("plain", (("write", 1), ("write", 2))))
+APART = (("shot", (("range", 3, 5),)), ("shot", (("write", 7), ("write", 1))), ("plain", (("range", 0, 1),)))
+
+HELD_UP = (("plain", (("write", "a"), ("write", "b"))), ("plain", (("write", "b"), ("write", "a"))),
+           ("shot", (("read", "c"), ("write", "a"))))
+
 # What each argument is in the calls of a module, where the function has no call of its own below.
 USUAL = {
     "jobs": {"jobs": JOBS, "job": PAY, "row": "x", "place": 0, "step": 1, "level": "watched", "one": 0, "other": 1,
@@ -35,6 +60,17 @@ USUAL = {
     "splits": {"jobs": CUT, "head": 0, "place": 0, "many": 2, "split": (0, 0, (1, 2)), "thing": (0, 0, (1, 2))},
     "levels": {"jobs": CUT, "levels": ("shot", "plain", "shot"), "other": ("plain", "shot", "watched"), "job": PAY,
                "place": 0, "prices": PRICES, "some": (0, 2), "thing": ("shot", "plain", "watched")},
+    "changes": {"jobs": BANK, "place": 0, "order": (2, 0, 1, 3), "holding": ((3, 0),), "prices": (5, 2), "cuts": CUTS,
+                "mix": BROKEN, "number": 2, "thing": CUTS},
+    "fillings": {"programs": (HIT, PEEK, MARK), "lone": ("day",), "company": COMPANY, "jobs": CUT, "many": 4, "table": "day",
+                 "levels": ("shot", "shot", "watched"), "program": HIT, "thing": COMPANY},
+    "histories": {"jobs": CROSS, "tale": TALE, "mix": (0, 1, 0, 1, 0, 1, 2, 2, 2), "number": 3, "seen": TALE[0],
+                  "one": (0, 0, 1, 0, 1, 1, 2, 2, 2), "other": (0, 1, 0, 1, 0, 1, 2, 2, 2), "thing": TALE},
+    "sessions": {"jobs": HAND, "ahead": ((1, 2),), "sessions": ((1, 2), (0,)), "rounds": ((0, 1), (2,)), "one": 1, "other": 2,
+                 "mix": (0, 1, 1, 2, 2, 0, 0), "split": (0, 0, (1, 2)), "thing": (0, 0, (1, 2))},
+    "gaps": {"keys": (2, 9), "number": 6, "low": 4, "high": 11, "cells": ((9,),), "jobs": APART, "thing": ((5, 6),)},
+    "ranges": {"jobs": TWICE, "mix": (0, 1, 1, 1, 0, 0), "split": (0, 0, (1,)), "thing": (0, 1, 1, 1, 0, 0)},
+    "waits": {"jobs": HELD_UP, "done": (2, 1), "place": 1, "thing": (2, 1)},
 }
 
 # More calls, or other ones: argument by argument, in place of the usual ones.
@@ -59,7 +95,40 @@ OWN = {
     "is_job": [{"thing": PAY}],
     "is_jobs": [{"thing": JOBS}],
     "who_writes": [{}, {"row": "y"}],
+    "is_order": [{"thing": (2, 0, 1, 3)}],
+    "is_holding": [{"thing": ((3, 0), (3, 1))}],
+    "saving_holdings": [{}, {"jobs": WRITE_SKEW}],
+    "cheapest_holding": [{}, {"jobs": WRITE_SKEW}],
+    "is_joining": [{"thing": (0, 0, 1, (3,))}],
+    "is_breaking_mix": [{"thing": BROKEN}],
+    "joining": [{}, {"cuts": ((), (), (1,), ())}],
+    "are_roads_past": [{"thing": ((3,),)}],
+    "is_program": [{"thing": PEEK}],
+    "is_bad_company": [{"thing": (COMPANY, (0, 0, (1, 3, 2)))}],
+    "bad_company": [{}, {"programs": (HIT, MARK), "lone": ("acc",)}],
+    "saving_tables": [{"lone": ()}],
+    "is_tale": [{"jobs": ADDS, "thing": LOST}],
+    "is_mix_of": [{"thing": (0, 0, 1, 0, 1, 1, 2, 2, 2)}],
+    "needs_ring": [{}, {"jobs": ADDS, "tale": LOST}],
+    "is_needs_ring": [{"jobs": ADDS, "tale": LOST, "thing": ((0, 2), (1, 0))}],
+    "is_tale_swaps": [{"thing": (1, 3)}],
+    "givings": [{}, {"jobs": ADDS, "tale": LOST}],
+    "rows_for": [{}, {"jobs": ADDS, "seen": ((None,), (0,))}],
+    "tale_for": [{}, {"jobs": ADDS, "seen": ((1,), (0,))}],
+    "is_ahead": [{"thing": ((0, 1), (1, 2))}],
+    "is_short_mix": [{"thing": (0, 1, 1, 0, 0)}],
+    "healing_pairs": [{"jobs": WRITE_SKEW, "ahead": ()}],
+    "spoiling_pairs": [{"ahead": ()}],
+    "rounds_for": [{}, {"jobs": WRITE_SKEW * 2}],
+    "is_range_jobs": [{"thing": (("plain", ()), ("shot", ()))}],
+    "is_range_split": [{"thing": (0, 0, (1,))}],
+    "waits_for": [{"done": (0, 1), "place": 0}],
+    "held_rows": [{"done": (0, 1)}],
+    "late_pairs": [{"done": (2, 0, 0, 0)}],
+    "loss": [{"done": (2, 0)}, {"done": (2, 0, 0, 0)}],
+    "is_loss": [{"done": (2, 0), "thing": ("ring", (0, 2))}, {"done": (2, 0, 0, 0), "thing": ("late", 2, "a")}],
 }
+
 
 def calls():
     """Triples (module, name, arguments by name, in the order of the signature)."""

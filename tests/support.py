@@ -1,10 +1,35 @@
 """What the tests share: exact errors, refusals of numbers and ROWS, families of small JOBS."""
 
+import inspect
+import random
 import unittest
 from itertools import combinations_with_replacement, permutations
 
 import oracle
+import samples
 from nosplit.errors import NoNumber, NoRow
+
+
+class Lists:
+    """A module of the package; every other call of each of its functions gets lists for tuples, but for a thing."""
+
+    def __init__(self, module):
+        for name, function in vars(module).items():
+            if inspect.isfunction(function) and function.__module__ == module.__name__ and not name.startswith("_"):
+                setattr(self, name, self.at_times_with_lists(function))
+
+    def at_times_with_lists(self, function):
+        names, count = list(inspect.signature(function).parameters), [0]
+
+        def call(*arguments):
+            count[0] += 1
+            if count[0] % 2:
+                return function(*arguments)
+            return function(*[value if name == "thing" else samples.listed_deep(value)
+                              for name, value in zip(names, arguments)])
+
+        call.__name__ = function.__name__
+        return call
 
 
 class Case(unittest.TestCase):
@@ -61,3 +86,20 @@ def small_jobs():
             found.append(oracle.at_levels(steps, oracle.all_levels(3)[at % 27]))
     found.append((("watched", (("read", "a"),)), ("shot", ()), ("plain", (("write", "a"), ("write", "zz")))))
     return found
+
+
+def random_line(chance, rows, most):
+    """STEPS of a JOB: each next one that fits, till there are as many as chance wants."""
+    wanted, line = chance.randint(0 if chance.random() < 0.1 else 1, most), ()
+    for _ in range(4 * most):
+        step = (chance.choice(("read", "write")), chance.choice(rows))
+        if len(line) < wanted and oracle.is_line(line + (step,)):
+            line = line + (step,)
+    return line
+
+
+def random_jobs(seed, count, rows, many, most):
+    """So many times so many JOBS of at most so many STEPS over these ROWS: the same ones for a seed each time."""
+    chance = random.Random(seed)
+    return [tuple((chance.choice(oracle.LEVELS), random_line(chance, rows, most)) for _ in range(many))
+            for _ in range(count)]

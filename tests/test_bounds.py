@@ -51,6 +51,7 @@ def mixed(jobs, step):
     return tuple(mix)
 
 
+FILES = ("jobs", "mixes", "store", "orders", "splits", "levels")
 KINDS = [make(level) for make in (wide, chain, readers) for level in oracle.LEVELS]
 MANY_MIXES = ("all_mixes", "how_many_let", "first_let", "all_let", "nth_let")
 FEWER = {"whole_mixes": 6, "straight_orders": 6, "nearest_order": 6, "all_splits": 6, "safe_lots": 8, "who_costs": 8,
@@ -85,7 +86,9 @@ class Wide(unittest.TestCase):
     def test_each_function_answers(self):
         names = interface.all_names()
         for at, jobs in enumerate(KINDS):
-            for _, name, arguments in interface.listed():
+            for module, name, arguments in interface.listed():
+                if module not in FILES:
+                    continue
                 if name in MANY_MIXES or (name in ("split_mix", "split_ring") and splits.safe(jobs)):
                     continue
                 if name == "seen_at":

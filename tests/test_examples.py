@@ -46,7 +46,7 @@ class Examples(unittest.TestCase):
                     with self.subTest(section=name, statement=statement):
                         self.check(statement, told, names)
                     count += 1
-        self.assertGreater(count, 60)
+        self.assertGreater(count, 110)
 
 
 if __name__ == "__main__":

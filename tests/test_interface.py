@@ -9,7 +9,7 @@ import samples
 
 # What comes back as a list: several results, where the document names no tuple.
 LISTS = ("all_mixes whole_mixes neighbours barred_moves pinches all_let all_rings straight_orders all_splits "
-         "safe_lots all_enough").split()
+         "safe_lots all_enough fine_orders saving_holdings greatest_safe rows_for rows_by").split()
 
 
 def kinds(value):
@@ -30,7 +30,8 @@ class Interface(unittest.TestCase):
 
     def test_number_of_functions(self):
         self.assertEqual({module: len(text.split()) for module, text in interface.SIGNATURES.items()},
-                         {"jobs": 27, "mixes": 23, "store": 17, "orders": 17, "splits": 15, "levels": 17})
+                         {"jobs": 27, "mixes": 23, "store": 17, "orders": 17, "splits": 15, "levels": 17, "changes": 23,
+                          "fillings": 16, "histories": 20, "sessions": 20, "gaps": 9, "ranges": 13, "waits": 14})
 
 
 class Calls(unittest.TestCase):

@@ -22,6 +22,13 @@ ZOO = [None, True, False, 0, 1, -1, 2, 10 ** 40, "", "x", "read", "plain", "X", 
        (0, -1, (1,)), (-1, 0, (1,)), (0, 0, (-1,)), ((0, 0),), ((0, 0), (0, 0)), ((1, 0), (0, 0)), ((0, 2),), ((0,),),
        ((0, 0, 0),), ((0, None),), (None, (0, 0)), ((0, True),), [(0, 0)], ("shot",), ("shot", None), (True, "shot"),
        NEST, (NEST, NEST), ("read", NEST), ("plain", NEST), (0, 0, NEST), (0, 1, 0, NEST), tuple(range(3000)),
+       ("ring", (0, 1)), ("ring", NEST), ("ring",), ("late", 0, "a"), ("late", NEST, "a"), ("late", 0, NEST), ("range", 0, 1),
+       ("plain", (("range", 0, 1),)), (("plain", (("range", 0, 1), ("write", 1))),), (("plain", (("range", NEST, 1),)),),
+       ("plain", (), (), ()), ("plain", (("x", "y"),), (("read", "x"),)), ("plain", NEST, NEST), (0, ("a",)), ((0, ("a",)),),
+       ((0, (NEST,)),), ((NEST, ("a",)),), (((0, ("a",)),), (0, 0, (1,))), (((0, ("a",)),), NEST), (((), ()), ()), ((NEST,), ()),
+       (((None,),), (("x", (0,)),)), (((0,),), (("x", (0,)),)), (((), ()), (("x", NEST),)), ((), (), ()), ((1,), ()), ((NEST, ()),),
+       (0, 0, 1, (1,)), (0, 0, 1, NEST), (NEST, 0, 1, (1,)), (0, NEST, 1, (1,)), (0, 0, NEST, (1,)), (0, 1, 0, (1,)), ((NEST, 0),),
+       ((0, 1), (1, 0)), ((0, 1), (1, 2)), ((5, 6), (8, 9)), ((3,), (1, 2)), ((3,), NEST), ((0, "a"), (1, "b")),
        (0,) * 3000, ("shot",) * 3000, "plain shot", (10 ** 30, 0), "01", ((0, 1), 0)]
 
 
@@ -37,6 +44,8 @@ def spoilt(value):
                 yield value[:at] + (other,) + value[at + 1:]
     elif isinstance(value, int):
         yield from (bool(value), str(value), None, (value,), -1, 10 ** 12)
+    elif value is None:
+        yield from (False, "", (), -1, 10 ** 12)
     else:
         yield from (value + "A", "", None, True, 0, (value,), [value])
 
