@@ -1,5 +1,7 @@
 """What single STEPS and JOBS do, for tuples that are known to be such."""
 
+from nosplit.values import ascending
+
 LEVELS = ("plain", "shot", "watched")
 KINDS = ("read", "write")
 LETTERS = "abcdefghijklmnopqrstuvwxyz"
@@ -9,6 +11,11 @@ def is_row(thing):
     if not isinstance(thing, str) or not 1 <= len(thing) <= 8:
         return False
     return all([sign in LETTERS for sign in thing])
+
+
+def is_set_of_rows(thing):
+    """Whether thing is a set of ROWS."""
+    return isinstance(thing, tuple) and all([is_row(part) for part in thing]) and ascending(thing) == thing
 
 
 def is_level(thing):
@@ -21,6 +28,11 @@ def rank_of(level):
 
 def is_lesser(level, other):
     return rank_of(level) < rank_of(other)
+
+
+def are_at_least(levels, others):
+    """Whether the one GIVING is at least the other one."""
+    return not any([is_lesser(levels[place], others[place]) for place in range(len(levels))])
 
 
 def all_givings(many):

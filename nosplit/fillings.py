@@ -26,8 +26,13 @@ def _has_two(program, table):
     return tables_of([program]).count(table) > 1
 
 
+def can_be_lone(programs, lone):
+    """Whether no PROGRAM has two slots of one of these tables."""
+    return not any([_has_two(program, table) for program in programs for table in lone])
+
+
 def _need_lone(programs, lone):
-    if any([_has_two(program, table) for program in programs for table in lone]):
+    if not can_be_lone(programs, lone):
         raise Unfit()
 
 
@@ -186,10 +191,6 @@ def greatest_safe(programs, lone):
     return greatest_sets(len(programs), lambda some: _is_safe(tuple([programs[place] for place in some]), lone))
 
 
-def _can_be_lone(programs, table):
-    return not any([_has_two(program, table) for program in programs])
-
-
 def _with_table(lone, table):
     return ascending(lone + (table,))
 
@@ -197,14 +198,14 @@ def _with_table(lone, table):
 def saving_tables(programs, lone):
     programs, lone = tupled(programs), tupled(lone)
     _need_lone(programs, lone)
-    able = [table for table in ascending(tables_of(programs)) if table not in lone and _can_be_lone(programs, table)]
+    able = [table for table in ascending(tables_of(programs)) if table not in lone and can_be_lone(programs, (table,))]
     return tuple([table for table in able if _is_safe(programs, _with_table(lone, table))])
 
 
 def with_lone(programs, lone, table):
     programs, lone = tupled(programs), tupled(lone)
     _need_lone(programs, lone)
-    if table not in tables_of(programs) or not _can_be_lone(programs, table):
+    if table not in tables_of(programs) or not can_be_lone(programs, (table,)):
         raise Unfit()
     return _with_table(lone, table)
 

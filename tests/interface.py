@@ -77,7 +77,42 @@ SIGNATURES = {
         may_move(jobs,done) ahead_pairs(jobs,done) late_pairs(jobs,done) ending(jobs,done)
         is_ending(jobs,done,thing) how_many_endings(jobs,done) loss(jobs,done) is_loss(jobs,done,thing)
         can_end(jobs,done) safe_moves(jobs,done)""",
+    "smooth": """is_jam(jobs,thing) least_jam(jobs) bare_jobs(jobs) is_smooth(jobs) stumble(jobs) is_stumble(jobs,thing)
+        smooth_levels(jobs)""",
+    "sweeps": """is_history(thing) how_many_commits(history) open_readers(history) opened_at(history,number)
+        versions_of(history,row) seen_version(history,number,row) seers(history,row,number) wanted(history,row)
+        spare(history) use_of(history,row,number) is_use_of(history,row,number,thing) freed_by(history,number)
+        fewest_to_shut(history,row,number) kept_by_oldest(history,row) needless(history) is_sweeps(history,thing)
+        first_wrong(history,sweeps) most_kept(history) history_of(jobs,mix)""",
+    "blame": """hurts(jobs,mix,levels) barred_with(jobs,mix,levels) hurting_levels(jobs,mix) letting_levels(jobs,mix)
+        refusing_raises(jobs,mix) clearing_raises(jobs,mix) single_raises(jobs,mix) undo_sets(jobs,mix)
+        lone_undos(jobs,mix) cheapest_undone(jobs,mix,prices) is_enough_undone(jobs,mix,some)
+        refused_in_turn(jobs,mix) split_shown(jobs,mix) is_split_shown(jobs,mix,thing)""",
+    "log": """is_deeds(pages,thing) records_of(deeds) log_ahead(deeds,number) log_disks(pages,deeds,number)
+        read_on(pages,deeds,disk) due_of(pages,deeds,many) is_right(pages,deeds,number,disk)
+        bare_cells(pages,deeds,number) bare_told(deeds,number) breach(pages,deeds) is_breach(pages,deeds,thing)
+        log_first(pages,deeds,page) tell_first(deeds,writer)""",
+    "judge": """is_claim(thing) stands(claim) paper_against(claim) is_paper_against(claim,thing) first_fallen(claims)
+        reason_for(claim) is_reason_for(claim,thing) levels_that_mend(claim)""",
+    "texts": """jobs_text(jobs) mix_text(mix) levels_text(levels) split_text(split) outcome_text(outcome) read_jobs(text)
+        read_mix(text) read_levels(text) read_split(text) read_outcome(text)""",
+    "desk": """is_request(thing) replies(rows,text)""",
 }
+
+BOARD = """enter(level) read(worker,row) write(worker,row,value) commit(worker) drop(worker) flush() fall(many) sweep()
+    twin() rows() versions(row) holder(row) level(worker) steps(worker) state(worker) workers(state) told() log() jobs()
+    mix() straight_so_far() safe_so_far() needed() too_low()"""
+
+
+def split_call(word):
+    """The name and the names of the arguments."""
+    name, arguments = word.rstrip(")").split("(")
+    return name, tuple(arguments.split(",")) if arguments else ()
+
+
+def methods():
+    """Pairs of each method of a Board and the names of its arguments."""
+    return [split_call(word) for word in BOARD.split()]
 
 
 def listed():
@@ -85,8 +120,7 @@ def listed():
     triples = []
     for module, text in SIGNATURES.items():
         for word in text.split():
-            name, arguments = word.rstrip(")").split("(")
-            triples.append((module, name, tuple(arguments.split(","))))
+            triples.append((module,) + split_call(word))
     return triples
 
 
@@ -95,8 +129,9 @@ def module_of(name):
 
 
 def all_names():
-    """All functions and errors under their names, as the examples of the document use them."""
+    """All functions, errors and the Board under their names, as the examples of the document use them."""
     names = {name: getattr(module_of("errors"), name) for name in ERRORS}
+    names["Board"] = module_of("board").Board
     for module, name, _ in listed():
         names[name] = getattr(module_of(module), name)
     return names

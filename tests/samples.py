@@ -47,6 +47,18 @@ APART = (("shot", (("range", 3, 5),)), ("shot", (("write", 7), ("write", 1))), (
 HELD_UP = (("plain", (("write", "a"), ("write", "b"))), ("plain", (("write", "b"), ("write", "a"))),
            ("shot", (("read", "c"), ("write", "a"))))
 
+STUCK = (("shot", (("write", "a"), ("write", "b"))), ("plain", (("write", "b"), ("read", "c"), ("write", "a"))),
+         ("watched", (("read", "a"), ("write", "c"))))
+
+HISTORY = (("commit", ("x",)), ("open", 0), ("commit", ("x", "y")), ("open", 1), ("commit", ("x",)), ("open", 4),
+           ("shut", 1), ("commit", ("y",)))
+AGAIN = ("plain", (("read", "x"), ("write", "x")))
+
+BOOK = (("c", "d"), ("e",))
+WORK = (("set", "ann", "c"), ("set", "ann", "e"), ("log", 2), ("flush",), ("end", "ann"), ("set", "bob", "c"), ("out", 0), ("log", 1))
+
+REQUESTS = "enter shot\nread 0 x\nenter plain\nwrite 1 x -3\ncommit 1\nwrite 0 x 1\nrows\nversions x"
+
 # What each argument is in the calls of a module, where the function has no call of its own below.
 USUAL = {
     "jobs": {"jobs": JOBS, "job": PAY, "row": "x", "place": 0, "step": 1, "level": "watched", "one": 0, "other": 1,
@@ -71,6 +83,16 @@ USUAL = {
     "gaps": {"keys": (2, 9), "number": 6, "low": 4, "high": 11, "cells": ((9,),), "jobs": APART, "thing": ((5, 6),)},
     "ranges": {"jobs": TWICE, "mix": (0, 1, 1, 1, 0, 0), "split": (0, 0, (1,)), "thing": (0, 1, 1, 1, 0, 0)},
     "waits": {"jobs": HELD_UP, "done": (2, 1), "place": 1, "thing": (2, 1)},
+    "smooth": {"jobs": STUCK, "thing": ((0, 1), (1, 2))},
+    "sweeps": {"history": HISTORY, "number": 0, "row": "x", "sweeps": ((8, "y", 2), (8, "x", 2), (8, "x", 1)),
+               "jobs": JOBS, "mix": MIX, "thing": ((8, "x", 2), (1, "x", 0))},
+    "blame": {"jobs": (AGAIN, AGAIN), "mix": (0, 1, 0, 0, 1, 1), "levels": ("watched", "plain"), "prices": (1, 5),
+              "some": (1,), "thing": (1, 0, (0,))},
+    "log": {"pages": BOOK, "deeds": WORK, "number": 8, "disk": (3, (6, -1)), "many": 3, "page": 0, "writer": "ann",
+            "thing": WORK},
+    "judge": {"claim": ("safe", CUT), "claims": (("safe", ADDS), ("let", ADDS, (0, 1, 0, 0, 1, 1))), "thing": ("safe", CUT)},
+    "texts": {"jobs": JOBS, "mix": MIX, "levels": ("shot", "plain"), "split": (0, 1, (2, 3)), "outcome": LOST},
+    "desk": {"rows": (("x", 5), ("y", 0)), "text": REQUESTS, "thing": "write 0 x -3"},
 }
 
 # More calls, or other ones: argument by argument, in place of the usual ones.
@@ -127,6 +149,35 @@ OWN = {
     "late_pairs": [{"done": (2, 0, 0, 0)}],
     "loss": [{"done": (2, 0)}, {"done": (2, 0, 0, 0)}],
     "is_loss": [{"done": (2, 0), "thing": ("ring", (0, 2))}, {"done": (2, 0, 0, 0), "thing": ("late", 2, "a")}],
+    "stumble": [{}, {"jobs": (AGAIN, ("shot", AGAIN[1]))}],
+    "is_stumble": [{"thing": (0, 1)}],
+    "smooth_levels": [{}, {"jobs": (AGAIN, ("shot", AGAIN[1]))}],
+    "is_history": [{"thing": (("open", 0), ("commit", ("x", "y")), ("shut", 0))}],
+    "use_of": [{"number": 1}, {"number": 3}, {"number": 2}],
+    "is_use_of": [{"number": 1, "thing": ((), 0)}, {"number": 3, "thing": ((("open", 7),), 7)}],
+    "seers": [{"number": 1}],
+    "fewest_to_shut": [{"number": 1}, {"number": 3}],
+    "hurts": [{}, {"levels": ("plain", "shot")}],
+    "split_shown": [{}, {"mix": (0, 0, 0, 1, 1, 1)}],
+    "tell_first": [{}, {"deeds": WORK[:5]}],
+    "breach": [{}, {"deeds": WORK[:7]}],
+    "is_breach": [{"thing": (8, (3, (6, -1)))}],
+    "is_claim": [{}, {"thing": ("no head", CUT, 2)}, {"thing": ("not lower", CUT, ("shot", "plain", "watched"))},
+                 {"thing": ("let", ADDS, (0, 1, 0, 0, 1, 1))}, {"thing": ("comes", ADDS, LOST)}, {"thing": ("never", ADDS, LOST)},
+                 {"thing": ("safe by", HAND, ((1, 2),))}, {"thing": ("many", (HIT, MARK), ("day",))}, {"thing": ("ranges", (("plain", ()), ("shot", ())))},
+                 {"thing": ("smooth", STUCK)}, {"thing": ("lasting", BOOK, WORK)}, {"thing": ("straight", ADDS, (0, 1, 0, 0, 1, 1))}],
+    "paper_against": [{}, {"claim": ("let", ADDS, (0, 1, 0, 0, 1, 1))}, {"claim": ("many", (HIT, PEEK), ())},
+                      {"claim": ("lasting", BOOK, WORK)}, {"claim": ("safe by", HAND, ((1, 2),))}],
+    "is_paper_against": [{"claim": ("let", ADDS, (0, 1, 0, 0, 1, 1)), "thing": (4, 0)},
+                         {"claim": ("no head", CUT, 2), "thing": (2, 0, (1, 0))},
+                         {"claim": ("straight", CROSS, (0, 1, 0, 1, 0, 1, 2, 2, 2)), "thing": (0, 1)}],
+    "reason_for": [{"claim": ("safe", ADDS)}],
+    "is_reason_for": [{"claim": ("safe", ADDS), "thing": ((0, 0, ()), (1, 0, ()))}],
+    "read_jobs": [{"text": "shot read x write x\nplain\n"}],
+    "read_mix": [{"text": "0 1 0 0"}, {"text": "-\n"}],
+    "read_levels": [{"text": "plain shot\n"}],
+    "read_split": [{"text": "4 0 2"}],
+    "read_outcome": [{"text": "sees - 1\nsees\nrow x 0 1"}],
 }
 
 

@@ -9,7 +9,8 @@ import samples
 
 # What comes back as a list: several results, where the document names no tuple.
 LISTS = ("all_mixes whole_mixes neighbours barred_moves pinches all_let all_rings straight_orders all_splits "
-         "safe_lots all_enough fine_orders saving_holdings greatest_safe rows_for rows_by").split()
+         "safe_lots all_enough fine_orders saving_holdings greatest_safe rows_for rows_by hurting_levels letting_levels "
+         "refusing_raises clearing_raises undo_sets log_disks levels_that_mend replies").split()
 
 
 def kinds(value):
@@ -31,7 +32,25 @@ class Interface(unittest.TestCase):
     def test_number_of_functions(self):
         self.assertEqual({module: len(text.split()) for module, text in interface.SIGNATURES.items()},
                          {"jobs": 27, "mixes": 23, "store": 17, "orders": 17, "splits": 15, "levels": 17, "changes": 23,
-                          "fillings": 16, "histories": 20, "sessions": 20, "gaps": 9, "ranges": 13, "waits": 14})
+                          "fillings": 16, "histories": 20, "sessions": 20, "gaps": 9, "ranges": 13, "waits": 14,
+                          "smooth": 7, "sweeps": 19, "blame": 14, "log": 13, "judge": 8, "texts": 10, "desk": 2})
+
+    def test_all_names_are_unlike(self):
+        names = [name for _, name, _ in interface.listed()]
+        self.assertEqual((len(names), len(set(names))), (304, 304))
+
+    def test_board(self):
+        board = interface.module_of("board").Board
+        self.assertEqual(board.__module__, "nosplit.board")
+        self.assertEqual(tuple(inspect.signature(board).parameters), ("rows",))
+        self.assertEqual(len(interface.methods()), 24)
+        for name, arguments in interface.methods():
+            with self.subTest(name=name):
+                method = vars(board)[name]
+                self.assertTrue(inspect.isfunction(method))
+                self.assertEqual(tuple(inspect.signature(method).parameters)[1:], arguments)
+        for name in ("__len__", "__eq__"):
+            self.assertTrue(inspect.isfunction(vars(board)[name]))
 
 
 class Calls(unittest.TestCase):

@@ -1,6 +1,7 @@
 """The files of the package keep to the subset of the language, as far as a look at their text can tell.
 
-It is narrower than the subset where the package needs no more: no generators, no stored sets, no try, no f-strings.
+It is narrower than the subset where the package needs no more: no generators, no stored sets, no f-strings, a try for
+own errors alone.
 """
 
 import ast
@@ -26,7 +27,7 @@ WORDS = set("""type typing typing_extensions enum Enum IntEnum StrEnum Flag IntF
 NODES = set("""Module Expr Constant Name Load Store Attribute Call Tuple List Dict Subscript Slice BinOp UnaryOp BoolOp Compare
     And Or Not Add Sub Mult FloorDiv Mod LShift RShift BitAnd BitOr BitXor USub Eq NotEq Lt LtE Gt GtE In NotIn Is IsNot IfExp
     Assign AugAssign Return If While For Break Continue Pass Raise FunctionDef ClassDef ImportFrom alias arguments arg
-    ListComp DictComp SetComp comprehension Lambda keyword Starred Set""".split())
+    ListComp DictComp SetComp comprehension Lambda keyword Starred Set Try ExceptHandler Delete Del""".split())
 EATERS = set("list tuple dict sorted sum any all enumerate zip min max".split())
 CHANGES = set("append clear extend insert pop remove reverse setdefault update".split())
 
@@ -107,11 +108,24 @@ class Language(unittest.TestCase):
                     doc = at == 0 and isinstance(part, ast.Expr) and isinstance(part.value, ast.Constant)
                     self.assertTrue(doc or plain or isinstance(part, (ast.ImportFrom, ast.FunctionDef, ast.ClassDef)))
                     if plain:
-                        ast.literal_eval(part.value)
+                        self.check_value(part.value, [found for above in node.body[:at] for found in self.functions(above)])
                 names = [found for part in node.body for found in self.binds(part)]
                 self.assertEqual(len(names), len(set(names)))
 
         self.go_through(check)
+
+    def functions(self, part):
+        return [part.name] if isinstance(part, ast.FunctionDef) else []
+
+    def check_value(self, value, functions):
+        """A plain value, or a dict from words to functions that are defined above."""
+        if isinstance(value, ast.Dict) and all(isinstance(part, ast.Name) for part in value.values):
+            self.assertLessEqual({part.id for part in value.values}, set(functions))
+            self.assertTrue(all(isinstance(ast.literal_eval(key), str) for key in value.keys))
+            return
+        plain = ast.literal_eval(value)
+        for part in plain.values() if isinstance(plain, dict) else plain if isinstance(plain, (list, tuple)) else ():
+            self.assertNotIsInstance(part, (list, dict))
 
     def binds(self, part):
         if isinstance(part, ast.ImportFrom):
@@ -233,11 +247,44 @@ class Language(unittest.TestCase):
 
         self.go_through(check)
         for name, text in self.texts.items():
-            self.assertNotIn("\\", text, name)
+            self.assertNotIn("\\", text.replace("\\n", ""), name)
             code = "\n".join(ast.unparse(part) for part in ast.walk(self.trees[name]) if isinstance(part, ast.stmt)
                              and not isinstance(part, (ast.FunctionDef, ast.ClassDef, ast.Expr)))
             words = "".join(sign if sign.isalnum() or sign == "_" else " " for sign in code).split()
             self.assertEqual([word for word in words if word in WORDS], [], name)
+
+    def test_tables_are_looked_up_before_they_are_called(self):
+        def check(name, tree, node):
+            if isinstance(node, ast.Call):
+                self.assertIsInstance(node.func, (ast.Name, ast.Attribute))
+
+        self.go_through(check)
+
+    def test_errors_that_are_caught(self):
+        own = {part.name for part in self.trees["errors.py"].body if isinstance(part, ast.ClassDef)}
+
+        def check(name, tree, node):
+            if isinstance(node, ast.Try):
+                self.assertEqual((node.orelse, node.finalbody, len(node.body)), ([], [], 1))
+                self.assertLessEqual({handler.type.id for handler in node.handlers}, own)
+                self.assertEqual([handler.name for handler in node.handlers if handler.name], [])
+
+        self.go_through(check)
+
+    def test_classes(self):
+        # Objects are compared and counted: then no list is sorted in place, and nothing is kept in an odd way.
+        allowed = {"__init__", "__len__", "__eq__"}
+        for name, tree in self.trees.items():
+            for node in tree.body:
+                if isinstance(node, ast.ClassDef):
+                    methods = [part.name for part in node.body if isinstance(part, ast.FunctionDef)]
+                    kept = {part.attr for part in ast.walk(node) if isinstance(part, ast.Attribute) and
+                            isinstance(part.ctx, ast.Store) and ast.unparse(part.value) == "self"}
+                    with self.subTest(file=name, owner=node.name):
+                        self.assertEqual(len(methods), len(set(methods)))
+                        self.assertLessEqual({method for method in methods if method.startswith("_")}, allowed)
+                        self.assertEqual(kept & set(methods), set())
+                        self.assertTrue(all(isinstance(part, (ast.FunctionDef, ast.Expr)) for part in node.body))
 
     def test_loops_change_nothing_they_go_over(self):
         for name, tree in self.trees.items():

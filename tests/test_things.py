@@ -4,6 +4,7 @@ import unittest
 
 import interface
 import samples
+from test_interface import kinds
 
 NEST = "deep"
 for _ in range(11):
@@ -29,7 +30,20 @@ ZOO = [None, True, False, 0, 1, -1, 2, 10 ** 40, "", "x", "read", "plain", "X", 
        (((None,),), (("x", (0,)),)), (((0,),), (("x", (0,)),)), (((), ()), (("x", NEST),)), ((), (), ()), ((1,), ()), ((NEST, ()),),
        (0, 0, 1, (1,)), (0, 0, 1, NEST), (NEST, 0, 1, (1,)), (0, NEST, 1, (1,)), (0, 0, NEST, (1,)), (0, 1, 0, (1,)), ((NEST, 0),),
        ((0, 1), (1, 0)), ((0, 1), (1, 2)), ((5, 6), (8, 9)), ((3,), (1, 2)), ((3,), NEST), ((0, "a"), (1, "b")),
-       (0,) * 3000, ("shot",) * 3000, "plain shot", (10 ** 30, 0), "01", ((0, 1), 0)]
+       (0,) * 3000, ("shot",) * 3000, "plain shot", (10 ** 30, 0), "01", ((0, 1), 0),
+       (("open", 0),), (("open", NEST),), (("shut", 0),), (("commit", ("x",)),), (("commit", ()),), (("commit", NEST),), ((NEST, 0),),
+       (("open", 0), ("open", 0)), (("open", True),), ("open", 0), (("open", 0, 0),), ((((),),),), ((("open", 0),), 0), (NEST, 0),
+       (((("open", 0),), NEST),), ((0, "x", 0),), ((0, "x", NEST),), ((0, NEST, 0),), ((NEST, "x", 0),), ((1, "x", 0), (1, "x", 0)),
+       (("set", "a", "c"),), (("set", "a", NEST),), (("set", NEST, "c"),), (("end", "a"),), (("end", NEST),), (("end", "a"), ("end", "a")),
+       (("log", 1),), (("log", NEST),), (("flush",),), (("flush", 0),), (("out", 0),), (("out", NEST),), (("told", "a"),), (("told", NEST),),
+       ((),), (("set",),), (NEST,), (["end", "a"],), (0, (0, (-1, -1))), (0, (0, NEST)), (0, (NEST, (-1, -1))), (NEST, (0, (-1, -1))),
+       (8, (3, (6, -1, -1))), (8, (3, (6,))), (8, (3, NEST)), ("safe",), ("safe", ()), ("safe", NEST), ("safe", (), ()), ("safe", []),
+       ("sure", ()), (NEST, ()), ("no head", ()), ("no head", (), 0), ("no head", NEST, NEST), ("not lower", (), ()), ("not lower", (), NEST),
+       ("let", (), ()), ("let", NEST, NEST), ("straight", (), (0,)), ("comes", (), ((), ())), ("comes", (), NEST), ("never", NEST, ((), ())),
+       ("safe by", (), ()), ("safe by", (), NEST), ("many", (), ()), ("many", NEST, ()), ("many", NEST, NEST), ("ranges", ()),
+       ("ranges", NEST), ("smooth", ()), ("smooth", NEST), ("lasting", (), ()), ("lasting", ((),), ()), ("lasting", NEST, ()),
+       ("lasting", ((),), NEST), "", " ", "enter", "enter shot", "read 0 x", "read 00 x", "read -0 x", "fall -5", "fall --5", "flush ",
+       " flush", "flush\n", "rows rows", "workers gone", "workers away", "level a", "deeds 0", "read 0 X", "write 0 x y"]
 
 
 def spoilt(value):
@@ -65,6 +79,8 @@ class Things(unittest.TestCase):
     def test_nearly_right_ones(self):
         for name, function, arguments in self.each():
             for thing in spoilt(arguments["thing"]):
+                if thing == arguments["thing"] and kinds(thing) == kinds(arguments["thing"]):
+                    continue
                 with self.subTest(name=name, thing=thing):
                     self.assertIs(function(**{**arguments, "thing": thing}), False)
 
@@ -75,7 +91,8 @@ class Things(unittest.TestCase):
                     told = function(**{**arguments, "thing": thing})
                     self.assertIn(told, (True, False))
                     self.assertIs(type(told), bool)
-                    if isinstance(thing, list) or not isinstance(thing, tuple):
+                    # A request is a string; what is asked of all others is a tuple.
+                    if not isinstance(thing, str if name == "is_request" else tuple):
                         self.assertIs(told, False)
 
     def test_whatever_the_bounds(self):
