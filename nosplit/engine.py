@@ -168,7 +168,8 @@ class Engine:
 
     def tell(self, numbers):
         for number in numbers:
-            self.crew[number].is_told = True
+            worker = self.crew[number]
+            worker.is_told = True
 
     def flush(self):
         self.tell(self.untold())
@@ -179,7 +180,8 @@ class Engine:
         need_number(many, len(lost) + 1)
         self.tell(lost[:many])
         for number in self.who("open") + lost[many:]:
-            self.crew[number].is_gone = True
+            worker = self.crew[number]
+            worker.is_gone = True
         self.lines = {row: [version for version in self.lines[row] if not self.is_of_gone(version)]
                       for row in self.lines}
         self.entries = []

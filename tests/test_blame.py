@@ -193,7 +193,7 @@ class Blame(Case):
             self.assertEqual(nb.is_split_shown(jobs, mix, told), told is not None)
 
     def test_all_splits_shown(self):
-        for jobs, mix in self.each(SOME[::5] + TURNING[::7]):
+        for jobs, mix in self.each(SOME + TURNING):
             found = self.splits_shown(jobs, mix)
             for head in range(len(jobs)):
                 others = [place for place in range(len(jobs)) if place != head]

@@ -137,6 +137,14 @@ class Claims(Case):
                 for thing in ((company, split[:2] + (split[2][::-1],)), (company[::-1], split), (company * 2, split), (company, split, 0)):
                     self.assertIs(nj.is_paper_against(claim, thing), fillings.is_bad_company(programs, lone, thing))
 
+    def test_many_with_lone_tables(self):
+        # Three of THREE show it with one day, or with one of two days; in the second COMPANY there are two.
+        claim, (company, split) = ("many", test_fillings.THREE, ("day",)), nj.paper_against(("many", test_fillings.THREE, ("day",)))
+        self.assertIs(nj.is_paper_against(claim, (company, split)), True)
+        wide = company + ((0, ("other", "further")),)
+        self.assertIs(nj.is_paper_against(("many", test_fillings.THREE, ()), (wide, split)), True)
+        self.assertIs(nj.is_paper_against(claim, (wide, split)), False)
+
     def test_ranges(self):
         several = [jobs for jobs in test_ranges.random_ranges(73, 40, 3, 2, 4) if sum(len(steps) + 1 for _, steps in jobs) <= 7]
         for jobs in several + [test_ranges.TWICE, test_ranges.PAIR, test_ranges.BLIND, ()]:
@@ -275,6 +283,8 @@ class Reasons(Case):
             self.assertIs(nj.is_reason_for(claim, thing), False)
         self.assertIs(nj.is_reason_for(("safe", CROSS), right), False)
         self.assertIs(nj.is_reason_for(("safe", ()), ()), True)
+        readers = ("safe", (("plain", (("read", "a"),)),) * 5)
+        self.assertIs(nj.is_reason_for(readers, tuple((head, 0, ()) for head in range(5))), True)
         self.assertEqual((nj.reason_for(("safe", ())), nj.reason_for(("safe", (("shot", ()),)))), ((), ()))
 
     def test_levels_that_mend(self):

@@ -189,7 +189,7 @@ class Deeds(Case):
                      ("set", "", "c"), ("set", "abcdefghi", "c"), ("set", None, "c"), ("set", "v", None), ("set", "v", ("c",)),
                      ("set", "v", "c", 0), ("end",), ("end", "V"), ("end", ("v",)), ("end", "u"), ("end", "v", 0), ("log", 0), ("log", -1),
                      ("log", True), ("log", 3), ("log", "1"), ("log",), ("out", 2), ("out", -1), ("out", True), ("out", "c"), ("out",),
-                     ("told", "v"), ("told", None), ("told",), ("read", "u"), (0, "u"), ((), "u"), ("set", "u", "c")):
+                     ("told", "v"), ("told", None), ("told",), ("told", "u", 0), ("told", ["u"]), ("end", ["v"]), ("set", ["v"], "c"), ("set", "v", ["c"]), ("read", "u"), (0, "u"), ((), "u"), ("set", "u", "c")):
             self.assertIs(nl.is_deeds(BOOK, made + (deed,)), False)
         for deed in (("flush",), ("set", "v", "c"), ("end", "v"), ("log", 1), ("log", 2), ("out", 0), ("out", 1), ("told", "u")):
             self.assertIs(nl.is_deeds(BOOK, made + (deed,)), True)
@@ -295,6 +295,12 @@ class Disks(Case):
                       (8, (3, (6, -1)), 0), (8, (2, (6, -1)))):
             wanted = thing == (8, (2, (6, -1))) and not is_right(BOOK, WORK, (2, (6, -1)))
             self.assertIs(nl.is_breach(BOOK, WORK, thing), wanted)
+
+    def test_numbers_alone(self):
+        deeds = (("set", "u", "a"), ("out", 0), ("log", 1))
+        self.assertIs(nl.is_breach(PAGES[0], deeds, (2, (0, (1,)))), True)
+        for thing in ((2, (0, (True,))), (2, (False, (1,))), (True, (0, (1,))), (2, (0, ((1,),)))):
+            self.assertIs(nl.is_breach(PAGES[0], deeds, thing), False)
 
     def test_an_image_ahead_of_its_records(self):
         deeds = (("set", "u", "a"), ("out", 0))

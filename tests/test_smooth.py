@@ -139,6 +139,17 @@ class Smooth(Case):
         self.assertIs(nk.is_jam(jobs, ((0, 1), (2, 0))), False)
         self.assertEqual(nk.least_jam(jobs), ((0, 1), (1, 1)))
 
+    def test_reads_wait_for_nobody(self):
+        jobs = (("plain", (("write", "x"), ("write", "y"))), ("plain", (("write", "y"), ("read", "x"), ("write", "x"))))
+        self.assertIs(nk.is_jam(jobs, ((0, 1), (1, 1))), False)
+        self.assertIs(nk.is_jam(jobs, ((0, 1), (1, 2))), True)
+
+    def test_no_two_hold_one_row(self):
+        jobs = (("plain", (("write", "x"), ("write", "z"), ("write", "y"))), ("plain", (("write", "y"), ("write", "z"), ("write", "x"))))
+        self.assertIs(nk.is_jam(jobs, ((0, 2), (1, 2))), False)
+        self.assertIs(nk.is_jam(jobs, ((0, 2), (1, 1))), True)
+        self.assertEqual(nk.least_jam(jobs), ((0, 1), (1, 2)))
+
     def test_what_is_no_jam(self):
         for thing in (None, (), [(0, 1), (1, 1)], ((1, 1), (0, 1)), ((0, 1),), ((0, 1), (0, 1)), ((0, True), (1, 1)), ((0, 1), [1, 1]),
                       ((0, 1, 0), (1, 1, 0)), ((0, 1), (1, 2)), ((0, 1), (1, None)), "jam", ((0, 0), (1, 0)), ((0, 1), (3, 1))):

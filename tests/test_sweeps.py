@@ -80,7 +80,7 @@ class Histories(Case):
         for many in range(5):
             for events in product(EVENTS, repeat=many):
                 self.assertIs(nw.is_history(events), open_at(events) is not None)
-        for thing in (None, [], [("open", 0)], (("open", -1),), (("open", True),), (("open", "x"),), (("open",),), (("shut", 0),),
+        for thing in (None, [], [("open", 0)], (("open", -1),), (("open", True),), (("open", "x"),), (("open",),), (("shut", 0),), (("open", [0]),),
                       (["open", 0],), (("commit", ()),), (("commit", ["x"]),), (("commit", ("y", "x")),), (("commit", ("x", "x")),),
                       (("commit", ("X",)),), (("commit", "x"),), (("commit", 0),), (("close", 0),), (("open", 0), ("open", 0)),
                       (("open", 0), ("shut", 0), ("shut", 0)), (("commit", ("x",), 0),), "open", (("open", (0,)),)):
@@ -267,7 +267,7 @@ class Sweeps(Case):
 
     def test_what_are_no_sweeps(self):
         for thing in (None, [(4, "x", 1)], ([4, "x", 1],), ((4, "x", True),), ((None, "x", 1),), ((4, "x"),), ((4, "x", 1, 0),), ((4, 0, 1),),
-                      ((4, ("x",), 1),), ((True, "x", 0),), "x", ((4, "x", 1), None), ((4, "x", 0),), ((4, "x", 3),)):
+                      ((4, ("x",), 1),), ((4, ["x"], 1),), ((True, "x", 0),), "x", ((4, "x", 1), None), ((4, "x", 0),), ((4, "x", 3),)):
             self.assertIs(nw.is_sweeps(LONG, thing), False)
         self.assertIs(nw.is_sweeps(LONG, ((4, "x", 2), (3, "x", 1))), True)
 
