@@ -15,6 +15,7 @@ import test_waits
 from nosplit import fillings, judge, levels, splits
 from nosplit.errors import Unfit
 from support import Case, Lists, random_jobs, small_jobs
+from test_things import ZOO, spoilt
 
 nj = Lists(judge)
 
@@ -172,6 +173,16 @@ class Claims(Case):
         for claim in FALLEN:
             self.assertIs(nj.stands(claim), False)
             self.assertIs(nj.is_paper_against(claim, nj.paper_against(claim)), True)
+
+    def test_things_of_every_kind(self):
+        for claim in STANDING + FALLEN:
+            paper = nj.paper_against(claim)
+            for thing in ZOO + (list(spoilt(paper)) if paper is not None else []):
+                with self.subTest(claim=claim, thing=thing):
+                    told = judge.is_paper_against(claim, thing)
+                    self.assertIs(type(told), bool)
+                    self.assertTrue(isinstance(thing, tuple) or not told)
+                    self.assertTrue(not told or paper is not None)
 
     def test_of_nothing(self):
         for claim in (("safe", ()), ("not lower", (), ()), ("let", (), ()), ("straight", (), ()), ("comes", (), ((), ())),
